@@ -62,6 +62,11 @@ def add_forms(one, other):
     return (tuple(terms), add(one_constant, other_constant))
 
 
+def subtract_forms(one, other):
+    """Return the form of the first form minus the second one."""
+    return add_forms(one, scale_form(-1, other))
+
+
 def scale_form(number, form):
     """Return the form of a number times a form."""
     scale = as_ratio(number)

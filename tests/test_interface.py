@@ -14,6 +14,23 @@ FUNCTIONS = {
         "is_form(value)", "constant_form(number)", "cell_form(name)", "names_in(form)", "add_forms(one, other)",
         "scale_form(number, form)", "substituted(form, name, other)", "value_at(form, values)", "form_text(form)",
     ),
+    "formulas": ("parse_formula(text)",),
+    "sheets": ("is_table(sheet, value)",),
+    "conditions": (
+        "conditions_of(sheet, *, wishes=(), held=(), limits=())",
+        "left_side(sheet, condition, *, wishes=(), held=(), limits=())",
+        "keeps(sheet, table, *, wishes=(), held=(), limits=())",
+        "weighted_sum(sheet, weights, *, wishes=(), held=(), limits=())",
+        "is_refusal(sheet, weights, *, wishes=(), held=(), limits=())",
+    ),
+}
+METHODS = {
+    "sheets.Sheet": (
+        "__init__(self, rows=())", "rows(self)", "cell_names(self)", "input_names(self)", "computed_names(self)",
+        "form_of(self, name)", "form_by_inputs(self, name)", "drivers_of(self, name)", "users_of(self, name)",
+        "own_table(self)", "value_of(self, name)", "with_input(self, name, number)", "with_table(self, table)",
+        "with_row(self, row)", "without_cell(self, name)", "__len__(self)", "__eq__(self, other)",
+    ),
 }
 
 
@@ -28,6 +45,20 @@ class FunctionsTest(unittest.TestCase):
                     self.assertTrue(inspect.isfunction(function))
                     self.assertEqual(function.__module__, "backsheet." + file)
                     self.assertEqual(function.__name__ + str(inspect.signature(function)), line)
+
+
+class MethodsTest(unittest.TestCase):
+
+    def test_methods_are_defined_as_written_in_their_own_class(self):
+        for place, lines in METHODS.items():
+            file, _, word = place.partition(".")
+            kind = getattr(importlib.import_module("backsheet." + file), word)
+            self.assertEqual(kind.__module__, "backsheet." + file)
+            for line in lines:
+                with self.subTest(place, line=line):
+                    method = vars(kind)[line.partition("(")[0]]
+                    self.assertTrue(inspect.isfunction(method))
+                    self.assertEqual(method.__name__ + str(inspect.signature(method)), line)
 
 
 if __name__ == "__main__":
