@@ -57,6 +57,10 @@ class Sheet:
         """Return the inputs on which a cell depends, in ascending order."""
         return names_in(self.form_by_inputs(name))
 
+    def ordered_names(self):
+        """Return the names of all cells, each one behind those that its form names."""
+        return tuple(self._by_inputs)
+
     def users_of(self, name):
         """Return the computed cells whose forms name a cell."""
         self.check_name(name)

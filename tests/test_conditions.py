@@ -2,6 +2,8 @@
 
 import unittest
 
+from cases import Case
+
 from backsheet import errors
 from backsheet.conditions import conditions_of, is_refusal, keeps, left_side, weighted_sum
 from backsheet.sheets import Sheet
@@ -25,13 +27,7 @@ def linear(constant, **factors):
     return tuple([(name, (factors[name], 1)) for name in sorted(factors)]), (constant, 1)
 
 
-class ConditionsTest(unittest.TestCase):
-
-    def check_error(self, kind, fields, call, *arguments, **named):
-        with self.assertRaises(errors.SheetError) as caught:
-            call(*arguments, **named)
-        self.assertIs(caught.exception.__class__, kind)
-        self.assertEqual(vars(caught.exception), fields)
+class ConditionsTest(Case):
 
     def check_all(self, kind, fields, **lists):
         """Each function raises the error, ahead of what else it would raise."""

@@ -23,6 +23,29 @@ FUNCTIONS = {
         "weighted_sum(sheet, weights, *, wishes=(), held=(), limits=())",
         "is_refusal(sheet, weights, *, wishes=(), held=(), limits=())",
     ),
+    "solving": (
+        "table_or_refusal(sheet, *, wishes=(), held=(), limits=())",
+        "is_possible(sheet, *, wishes=(), held=(), limits=())",
+        "limit_needed(sheet, name, side, *, wishes=(), held=(), limits=())",
+        "is_spare(sheet, name, side, weights, *, wishes=(), held=(), limits=())",
+    ),
+    "ranges": (
+        "least_value(sheet, name, *, wishes=(), held=(), limits=())",
+        "greatest_value(sheet, name, *, wishes=(), held=(), limits=())",
+        "is_bound(sheet, name, side, answer, *, wishes=(), held=(), limits=())",
+        "is_endless(sheet, name, side, answer, *, wishes=(), held=(), limits=())",
+        "value_range(sheet, name, *, wishes=(), held=(), limits=())",
+        "nearest_value(sheet, name, number, *, wishes=(), held=(), limits=())",
+    ),
+    "changes": (
+        "attempt(sheet, wishes, inputs, *, held=(), limits=())", "solve(sheet, wishes, *, held=(), limits=())",
+        "is_solution(sheet, wishes, value, *, held=(), limits=())",
+    ),
+    "moves": (
+        "is_move(sheet, value, *, held=())", "move_between(sheet, one, other)", "moved(sheet, move, factor)",
+        "elementary_moves(sheet, *, held=())", "split_move(sheet, move, *, held=())",
+        "is_split(sheet, move, parts, *, held=())",
+    ),
 }
 METHODS = {
     "sheets.Sheet": (

@@ -2,6 +2,8 @@
 
 import unittest
 
+from cases import Case
+
 from backsheet import errors
 from backsheet.sheets import Sheet, is_table
 
@@ -20,13 +22,7 @@ ODD_VALUES = (
 )
 
 
-class SheetTest(unittest.TestCase):
-
-    def check_error(self, kind, fields, call, *arguments, **named):
-        with self.assertRaises(errors.SheetError) as caught:
-            call(*arguments, **named)
-        self.assertIs(caught.exception.__class__, kind)
-        self.assertEqual(vars(caught.exception), fields)
+class SheetTest(Case):
 
     def check_rows(self, rows, kind, **fields):
         for passed in (tuple(rows), list(rows)):
