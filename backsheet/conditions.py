@@ -1,7 +1,7 @@
 """Conditions: what formulas, wishes, held cells and limits ask of a table."""
 
 from backsheet.errors import (
-    DuplicateCell, EmptyLimit, InvalidLimit, InvalidWeights, InvalidWish, UnknownCell, UnknownCondition,
+    DuplicateCell, EmptyLimit, InvalidLimit, InvalidWeights, InvalidWish, UnknownCondition,
 )
 from backsheet.forms import add_forms, cell_form, constant_form, scale_form, subtract_forms, value_at
 from backsheet.ratios import ZERO, as_ratio, compare, is_number, is_ratio

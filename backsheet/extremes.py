@@ -74,10 +74,10 @@ def full_weights(sheet, sides, weights, form):
     rest = subtract_forms(sum_of_sides(sides, list(weights.items())), form)
     # Each cell comes ahead of those that its form names, so that none comes back.
     for name in reversed(sheet.ordered_names()):
-        condition = ("formula", name)
         factor = dict(rest[0]).get(name, ZERO)
-        if condition in known and factor != ZERO:
+        # Of the inputs none is left when their turn comes.
+        if factor != ZERO:
+            condition = ("formula", name)
             full[condition] = multiply(-1, factor)
             rest = add_forms(rest, scale_form(full[condition], known[condition]))
     return tuple([(condition, full[condition]) for condition in sorted(full)])
-

@@ -1,7 +1,7 @@
 """Forms: sums of numbers times cells, and a constant."""
 
 from backsheet.errors import UnknownCell
-from backsheet.ratios import ONE, ZERO, add, as_ratio, is_ratio, multiply, ratio_text
+from backsheet.ratios import ONE, ZERO, add_ratios, as_ratio, is_ratio, multiply_ratios, ratio_text
 
 NAME_LETTERS = 8
 FUNCTION_WORDS = ("sum", "average")
@@ -57,9 +57,9 @@ def add_forms(one, other):
     other_terms, other_constant = other
     factors = dict(one_terms)
     for name, factor in other_terms:
-        factors[name] = add(factors.get(name, ZERO), factor)
+        factors[name] = add_ratios(factors.get(name, ZERO), factor)
     terms = [(name, factors[name]) for name in sorted(factors) if factors[name] != ZERO]
-    return (tuple(terms), add(one_constant, other_constant))
+    return (tuple(terms), add_ratios(one_constant, other_constant))
 
 
 def subtract_forms(one, other):
@@ -73,8 +73,8 @@ def scale_form(number, form):
     if scale == ZERO:
         return constant_form(ZERO)
     terms, constant = form
-    scaled = [(name, multiply(scale, factor)) for name, factor in terms]
-    return (tuple(scaled), multiply(scale, constant))
+    scaled = [(name, multiply_ratios(scale, factor)) for name, factor in terms]
+    return (tuple(scaled), multiply_ratios(scale, constant))
 
 
 def substituted(form, name, other):
@@ -92,8 +92,14 @@ def value_at(form, values):
     for name, factor in terms:
         if name not in numbers:
             raise UnknownCell(name)
-        total = add(total, multiply(factor, numbers[name]))
+        total = add_ratios(total, multiply_ratios(factor, as_ratio(numbers[name])))
     return total
+
+
+def change_at(form, changes):
+    """Return how the value of a form changes where the cells change in the given ways."""
+    terms, _ = form
+    return value_at((terms, ZERO), changes)
 
 
 def form_text(form):

@@ -15,7 +15,7 @@ SIGNS = "+-*/(),"
 OPPOSITE = "- factor"
 
 # Operators that bind closer have a higher rank; an open parenthesis has none.
-RANKS = {"+": 1, "-": 1, "*": 2, "/": 2, OPPOSITE: 3}
+RANKS = {"+": 1, "-": 1, "*": 2, "/": 2, "- factor": 3}
 LOWEST_RANK = 1
 
 # What may follow in a formula.

@@ -4,7 +4,7 @@ from math import gcd
 
 from backsheet.conditions import checked_held
 from backsheet.errors import InvalidMove, InvalidNumber, InvalidTable
-from backsheet.forms import value_at
+from backsheet.forms import change_at
 from backsheet.ratios import ONE, ZERO, add, compare, divide, is_number, is_ratio, multiply, subtract
 from backsheet.sheets import is_table
 from backsheet.systems import whole_scale
@@ -20,7 +20,7 @@ def is_move(sheet, value, *, held=()):
         return False
     changes = dict(value)
     numbers = [(name, changes.get(name, ZERO)) for name in sheet.cell_names()]
-    return all([value_at((sheet.form_of(name)[0], ZERO), numbers) == number for name, number in numbers])
+    return all([change_at(sheet.form_of(name), numbers) == number for name, number in numbers])
 
 
 def is_change(sheet, value):
@@ -47,7 +47,7 @@ def move_of(changes):
 
 def move_by_inputs(sheet, changes):
     """Return the move that changes the inputs in a given way."""
-    return move_of([(name, value_at((sheet.form_by_inputs(name)[0], ZERO), changes)) for name in sheet.cell_names()])
+    return move_of([(name, change_at(sheet.form_by_inputs(name), changes)) for name in sheet.cell_names()])
 
 
 def moved(sheet, move, factor):
@@ -80,7 +80,7 @@ def elementary_moves(sheet, *, held=()):
 def input_vector(sheet, names, name):
     """Return how cells change with one input, as integers."""
     changes = [(each, ONE if each == name else ZERO) for each in sheet.input_names()]
-    numbers = [value_at((sheet.form_by_inputs(each)[0], ZERO), changes) for each in names]
+    numbers = [change_at(sheet.form_by_inputs(each), changes) for each in names]
     scale = whole_scale(numbers)
     return reduced_vector([multiply(scale, number)[0] for number in numbers])
 
@@ -90,9 +90,9 @@ def reduced_vector(vector):
     common = 0
     for number in vector:
         common = gcd(common, number)
-    if [number for number in vector if number != 0][0] < 0:
-        common = -common
-    return [number // common for number in vector]
+    first = [number for number in vector if number != 0][0]
+    sign = -1 if first < 0 else 1
+    return [sign * number // common for number in vector]
 
 
 def still_vectors(vectors, at):

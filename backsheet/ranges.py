@@ -5,7 +5,7 @@ from backsheet.conditions import (
 )
 from backsheet.errors import InvalidNumber, UnknownSide
 from backsheet.extremes import least_of
-from backsheet.forms import cell_form, scale_form, value_at
+from backsheet.forms import cell_form, change_at, scale_form
 from backsheet.moves import is_move
 from backsheet.ratios import ZERO, as_ratio, compare, is_number, is_ratio, multiply
 
@@ -61,7 +61,7 @@ def is_endless(sheet, name, side, answer, *, wishes=(), held=(), limits=()):
     if compare(multiply(side_sign(side), changes.get(name, ZERO)), 0) >= 0:
         return False
     slopes = [(each, changes.get(each, ZERO)) for each in sheet.cell_names()]
-    return all([is_kept(condition, value_at((form[0], ZERO), slopes)) for condition, form in sides])
+    return all([is_kept(condition, change_at(form, slopes)) for condition, form in sides])
 
 
 def checked_query(sheet, name, side, wishes, held, limits):

@@ -55,8 +55,13 @@ def ratio(top, bottom=1):
 
 def add(one, other):
     """Return the sum of two numbers."""
-    one_top, one_bottom = as_ratio(one)
-    other_top, other_bottom = as_ratio(other)
+    return add_ratios(as_ratio(one), as_ratio(other))
+
+
+def add_ratios(one, other):
+    """Return the sum of two ratios, of which it is known that they are some."""
+    one_top, one_bottom = one
+    other_top, other_bottom = other
     return ratio(one_top * other_bottom + other_top * one_bottom, one_bottom * other_bottom)
 
 
@@ -67,8 +72,13 @@ def subtract(one, other):
 
 def multiply(one, other):
     """Return the product of two numbers."""
-    one_top, one_bottom = as_ratio(one)
-    other_top, other_bottom = as_ratio(other)
+    return multiply_ratios(as_ratio(one), as_ratio(other))
+
+
+def multiply_ratios(one, other):
+    """Return the product of two ratios, of which it is known that they are some."""
+    one_top, one_bottom = one
+    other_top, other_bottom = other
     return ratio(one_top * other_top, one_bottom * other_bottom)
 
 

@@ -22,7 +22,8 @@ PAIR = Sheet([("a", "input", 1), ("b", "input", 2), ("c", "formula", "a + b")])
 LARGE = Sheet([
     ("k", "formula", "3*f - g/7 + 1000"), ("a", "input", (-1, 3)), ("b", "input", 12), ("g", "formula", "a + b*2 - 5"),
     ("c", "input", 0), ("h", "formula", "average(a, b, c, d, e, f)"), ("d", "input", 7), ("e", "input", (5, 2)),
-    ("i", "formula", "g - h*6 + 2*c"), ("f", "input", 1), ("j", "formula", "(i + k)/3 - e"), ("l", "formula", "j - 2*d"),
+    ("i", "formula", "g - h*6 + 2*c"), ("f", "input", 1), ("j", "formula", "(i + k)/3 - e"),
+    ("l", "formula", "j - 2*d"),
 ])
 
 
@@ -194,7 +195,8 @@ def random_sheet(source, inputs=3, computed=3):
     rows = [(name, "input", source.choice([0, 1, 2, 5, -3, (1, 2)])) for name in names[:inputs]]
     for at in range(inputs, inputs + computed):
         known = names[:at] or ["1"]
-        parts = [source.choice(["+ ", "- ", "+ 2*", "- 1/2*"]) + source.choice(known) for _ in range(source.randrange(4))]
+        signs = [source.choice(["+ ", "- ", "+ 2*", "- 1/2*"]) for _ in range(source.randrange(4))]
+        parts = [sign + source.choice(known) for sign in signs]
         rows.append((names[at], "formula", str(source.randrange(3)) + " " + " ".join(parts)))
     source.shuffle(rows)
     return Sheet(rows)
@@ -209,7 +211,8 @@ def random_lists(source, sheet):
     limits = []
     for name in source.sample(names, source.randrange(count + 1)):
         low, high = sorted([fraction(near(source, sheet, name)), fraction(near(source, sheet, name))])
-        limits.append((name, source.choice([None, pair(low), pair(low)]), source.choice([None, pair(high), pair(high)])))
+        ends = [source.choice([None, pair(end), pair(end)]) for end in (low, high)]
+        limits.append((name, *ends))
     return {"wishes": wishes, "held": held, "limits": limits}
 
 

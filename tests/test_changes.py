@@ -172,7 +172,8 @@ class SolveTest(ChangesCase):
         self.check(TOTAL, [("net", 50)], None, held=["total"], limits=[("tax", None, (69 * LONG + 1, LONG))])
 
     def test_held_computed_cells_keep_the_first_value(self):
-        sheet = Sheet([("a", "input", 1), ("b", "input", 2), ("c", "input", 3), ("p", "formula", "a + b"), ("q", "formula", "b + c")])
+        sheet = Sheet([("a", "input", 1), ("b", "input", 2), ("c", "input", 3), ("p", "formula", "a + b"),
+            ("q", "formula", "b + c")])
         self.check(sheet, [("q", 9)], {"c": 7}, held=["p"])
         self.check(sheet, [("q", 9)], {"a": -3, "b": 6}, held=["p", "c"])
         self.check(sheet, [("q", 9)], {"a": -1, "b": 4, "c": 5}, held=["p"], limits=[("c", 0, 5), ("b", 0, 5)])
@@ -192,7 +193,7 @@ class SolveTest(ChangesCase):
         source = random.Random(31)
         counts = {None: 0, 0: 0, 1: 0, 2: 0, 3: 0}
         for _ in range(500):
-            if source.random() < 0.3:
+            if source.random() < 0.5:
                 sheet, lists = self.narrow_case(source)
             else:
                 sheet = cases.random_sheet(source, source.choice([1, 2, 3, 3, 3]), source.randrange(1, 4))
@@ -201,7 +202,7 @@ class SolveTest(ChangesCase):
             numbers = cases.solution(sheet, wishes, **lists)
             counts[None if numbers is None else len(numbers)] += 1
             self.check(sheet, wishes, numbers and {name: cases.pair(numbers[name]) for name in numbers}, **lists)
-        self.assertGreater(min(counts.values()), 5)
+        self.assertGreater(min(counts.values()), 10)
 
     def narrow_case(self, source):
         """A wish that takes several inputs, since none may go far."""
@@ -210,8 +211,8 @@ class SolveTest(ChangesCase):
         limits = []
         for name in sheet.input_names():
             own = cases.fraction(sheet.value_of(name))
-            limits.append((name, cases.pair(own - source.randrange(3)), cases.pair(own + source.randrange(3))))
-        wish = cases.fraction(sheet.value_of("s")) + source.randrange(-6, 7)
+            limits.append((name, cases.pair(own - source.randrange(1, 3)), cases.pair(own + source.randrange(1, 3))))
+        wish = cases.fraction(sheet.value_of("s")) + source.choice([0, 1, 2, 3, 4, 5, 6, -3, -4, -5])
         return sheet, {"wishes": [("s", cases.pair(wish))], "limits": limits}
 
     def test_large_sheets(self):
@@ -239,7 +240,8 @@ class SolveTest(ChangesCase):
         lists = {"held": ["tax", "tax"], "limits": [("net", None, 5)]}
         wishes = [("total", 7), ("tax", 20)]
         solve(TOTAL, wishes, **lists)
-        self.assertEqual((wishes, lists), ([("total", 7), ("tax", 20)], {"held": ["tax", "tax"], "limits": [("net", None, 5)]}))
+        self.assertEqual((wishes, lists), ([("total", 7), ("tax", 20)],
+            {"held": ["tax", "tax"], "limits": [("net", None, 5)]}))
 
 
 class SolutionTest(Case):

@@ -58,7 +58,8 @@ class ListsTest(ConditionsTest):
             ))
             for condition, side in (
                 (("formula", "total"), linear(0, net=-1, tax=-1, total=1)), (("held", "net"), linear(-100, net=1)),
-                (("held", "tax"), ((("tax", (1, 1)),), (-41, 2))), (("held", "total"), ((("total", (1, 1)),), (-241, 2))),
+                (("held", "tax"), ((("tax", (1, 1)),), (-41, 2))),
+                (("held", "total"), ((("total", (1, 1)),), (-241, 2))),
                 (("high", "total"), linear(7, total=-1)), (("low", "tax"), linear(-5, tax=1)),
                 (("low", "total"), ((("total", (1, 1)),), (1, 3))), (("wish", "net"), linear(-4, net=1)),
                 (("wish", "total"), ((("total", (1, 1)),), (-1, 2))),
@@ -81,12 +82,14 @@ class ListsTest(ConditionsTest):
     def test_other_conditions(self):
         lists = {"wishes": [("a", 4)], "held": ["b"], "limits": [("a", 0, None), ("b", None, 9)]}
         for condition in (
-            *ODD_VALUES, ("formula", "a"), ("formula", "none"), ("held", "a"), ("wish", "b"), ("low", "b"), ("high", "a"),
+            *ODD_VALUES, ("formula", "a"), ("formula", "none"), ("held", "a"), ("wish", "b"), ("low", "b"),
+            ("high", "a"),
             ["held", "b"], ("held", "b", "b"), ("b", "held"), ("Held", "b"), ("", ""), ("held", ["b"]), ["wish", ["a"]],
             (("held", "b"),), ("held",), "held",
         ):
             with self.subTest(condition=condition):
-                self.check_error(errors.UnknownCondition, {"condition": condition}, left_side, SHEET, condition, **lists)
+                self.check_error(errors.UnknownCondition, {"condition": condition}, left_side, SHEET, condition,
+                    **lists)
 
 
 class CheckingTest(ConditionsTest):
@@ -111,7 +114,8 @@ class CheckingTest(ConditionsTest):
 
     def test_limits(self):
         for limit in (
-            *ODD_VALUES, *[("a", number, None) for number in NO_NUMBERS], *[("a", None, number) for number in NO_NUMBERS],
+            *ODD_VALUES, *[("a", number, None) for number in NO_NUMBERS],
+            *[("a", None, number) for number in NO_NUMBERS],
             ("a", 3), ("a", 1, 2, 3), (["a"], 1, 2), (None, 1, 2), (1, 2, 3), ["a", 1, 2],
         ):
             self.check_all(errors.InvalidLimit, {"index": 0}, limits=[limit])
@@ -222,9 +226,11 @@ class WeightsTest(ConditionsTest):
             (second, first, third), (first, third, second), (first, first), (second, second), (*REFUSAL, third),
             (first, (("high", "a"), (1, 1)), third), (first, (("held", "a"), (1, 1))), ((("formula", "a"), (1, 1)),),
             ((("formula", "b"), (0, 1)),), ((("high", "b"), (0, 1)),), ((("high", "b"), (-1, 1)),),
-            ((("low", "b"), (-1, 1)),), ((("wish", "a"), 1),), ((("wish", "a"), (2, 2)),), ((("wish", "a"), (True, 1)),),
+            ((("low", "b"), (-1, 1)),), ((("wish", "a"), 1),), ((("wish", "a"), (2, 2)),),
+            ((("wish", "a"), (True, 1)),),
             ((("wish", "a"), (1, True)),), ((("wish", "a"), [1, 1]),), ([("wish", "a"), (1, 1)],),
-            ((["wish", "a"], (1, 1)),), ((("wish", "a"),),), ((("wish", "a"), (1, 1), (1, 1)),), (("wish", "a"), (1, 1)),
+            ((["wish", "a"], (1, 1)),), ((("wish", "a"),),), ((("wish", "a"), (1, 1), (1, 1)),),
+            (("wish", "a"), (1, 1)),
             ((("wish", ["a"]), (1, 1)),), ((["wish", ["a"]], (1, 1)),), (("wish", (1, 1)),), ((("wish",), (1, 1)),),
             ((("wish", "a"), "1"),), ((("wish", "a"), None),), (None,), (first, None), {first: 1},
         ):

@@ -79,7 +79,8 @@ class IsFormTest(unittest.TestCase):
         self.check_none(one_term("a", (0, 1)), ((("a", (1, 1)), ("b", (0, 1))), (0, 1)), one_term("a", 0))
 
     def test_no_ratio_in_a_term(self):
-        for number in ((2, 4), (1, 0), (1, -1), (0, 2), 1, -2, True, None, "1", (), (1,), (1, 1, 1), (True, 1), (1, True)):
+        for number in ((2, 4), (1, 0), (1, -1), (0, 2), 1, -2, True, None, "1", (), (1,), (1, 1, 1), (True, 1),
+            (1, True)):
             self.check_none(one_term("a", number))
 
     def test_no_ratio_as_the_constant(self):

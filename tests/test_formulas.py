@@ -275,14 +275,16 @@ class FaultyFormulasTest(FormulaTest):
                 self.check_syntax(text, position)
 
     def test_texts_that_end_too_early(self):
-        for text in ("", "   ", "a +", "a +  ", "(a", "(a ", "-", "- ", "2 *", "((a)", "a -  -", "sum((a)", "sum(a, b  "):
+        for text in ("", "   ", "a +", "a +  ", "(a", "(a ", "-", "- ", "2 *", "((a)", "a -  -", "sum((a)",
+            "sum(a, b  "):
             with self.subTest(text):
                 self.check_syntax(text, len(text))
 
     def test_the_first_operator_that_cannot_be_performed(self):
         linear, zero = errors.NotLinear, errors.ZeroDivisor
         for text, kind, position in (
-            ("a / b", linear, 2), ("1 / a", linear, 2), ("1 / 0", zero, 2), ("a / 0", zero, 2), ("a / (b - b)", zero, 2),
+            ("a / b", linear, 2), ("1 / a", linear, 2), ("1 / 0", zero, 2), ("a / 0", zero, 2),
+            ("a / (b - b)", zero, 2),
             ("0 / 0", zero, 2), ("a / (b - b + c)", linear, 2), ("a * (b / 0)", zero, 7), ("(a * b) / 0", linear, 3),
             ("1 / 0 + a * b", zero, 2), ("a * b + 1 / 0", linear, 2), ("a * b / 0", linear, 2), ("1 / 0 * a", zero, 2),
             ("c * (a * b)", linear, 7), ("sum(1, a * a, 1 / 0)", linear, 9), ("a*2*b", linear, 3),

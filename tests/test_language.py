@@ -154,10 +154,43 @@ def faults_of_values(tree):
     return faults
 
 
+def faults_beside_equality(tree):
+    """Rules L7 and L25, where a class has __eq__: no generators straight in calls, no sorting in place."""
+    faults = [f"generator in line {node.lineno}" for node in ast.walk(tree) if isinstance(node, ast.GeneratorExp)]
+    for node in ast.walk(tree):
+        if isinstance(node, ast.Attribute) and node.attr == "sort":
+            faults.append(f"sort in line {node.lineno}")
+    return faults
+
+
+def faults_of_classes(tree):
+    """Rule L18: no name is a method and an attribute in one class."""
+    faults = []
+    for kind in [node for node in ast.walk(tree) if isinstance(node, ast.ClassDef)]:
+        methods = [node.name for node in kind.body if isinstance(node, ast.FunctionDef)]
+        stored = [node.attr for node in ast.walk(kind) if isinstance(node, ast.Attribute)
+                  and isinstance(node.ctx, ast.Store)]
+        faults += [f"method and attribute {name}" for name in methods if name in stored]
+        faults += [f"method {name} twice" for name in methods if methods.count(name) > 1]
+    return faults
+
+
+def faults_of_handlers(tree):
+    """Rule L19: the name of a caught error stands for nothing else in its function."""
+    faults = []
+    for function in [node for node in ast.walk(tree) if isinstance(node, ast.FunctionDef)]:
+        names = [node.name for node in ast.walk(function) if isinstance(node, ast.ExceptHandler) and node.name]
+        faults += [f"caught error {name}" for name in names if bound_names(function).count(name) > 1]
+    return faults
+
+
 def faults_of_source(text):
     tree = ast.parse(text)
     found = [faults_of_lines(text)]
-    for look in (faults_of_imports, faults_of_names, faults_of_local_names, faults_of_functions, faults_of_values):
+    for look in (
+        faults_of_imports, faults_of_names, faults_of_local_names, faults_of_functions, faults_of_values,
+        faults_beside_equality, faults_of_classes, faults_of_handlers,
+    ):
         found.append(look(tree))
     return [fault for faults in found for fault in faults]
 
@@ -199,13 +232,18 @@ class FaultsTest(unittest.TestCase):
     def test_sources_with_a_fault(self):
         for source in (
             "x = 1" + " " * 120, "\n" * 400, "# \u00e4", "a =\t1", "import math", "from fractions import Fraction",
-            "from .ratios import add", "from backsheet.ratios import *", "from math import gcd as g", "from math import pi",
+            "from .ratios import add", "from backsheet.ratios import *", "from math import gcd as g",
+            "from math import pi",
             "def f():\n    from math import gcd", "def f(id):\n    return 1", "def f():\n    input = 1",
             "def f():\n    print(1)", "def f(x):\n    return hash(x)", "def f(x):\n    return x.as_integer_ratio()",
             "class A:\n    def __hash__(self):\n        return 1", "@cache\ndef f():\n    return 1",
             "def f():\n" + "    pass\n" * 41, "A = 1 / 2", "A = 0.5", "A = 'a%b'", "A = 'typing'",
             "from backsheet.ratios import add\ndef f(add):\n    return 1", "class A:\n    pass\ndef f():\n    A = 1",
             "def f():\n    global A", "def f():\n    for x in {1, 2}:\n        pass",
+            "def f(x):\n    return any(y for y in x)", "def f(x):\n    x.sort()",
+            "class A:\n    def f(self):\n        self.f = 1",
+            "class A:\n    def f(self):\n        pass\n    def f(self):\n        pass",
+            "def f(e):\n    try:\n        pass\n    except KeyError as e:\n        pass",
         ):
             with self.subTest(source[:40]):
                 self.assertNotEqual(faults_of_source(source), [])

@@ -17,16 +17,20 @@ FIRST = (("net", (1, 1)), ("tax", (-1, 1)))
 SECOND = (("net", (1, 1)), ("total", (1, 1)))
 THIRD = (("tax", (1, 1)), ("total", (1, 1)))
 GENERAL = (("net", (3, 1)), ("tax", (-1, 1)), ("total", (2, 1)))
-MOVES = ((), FIRST, SECOND, THIRD, GENERAL, (("net", (1, LONG)), ("total", (1, LONG))), (("net", (-5, 2)), ("tax", (5, 2))))
+MOVES = ((), FIRST, SECOND, THIRD, GENERAL, (("net", (1, LONG)), ("total", (1, LONG))),
+    (("net", (-5, 2)), ("tax", (5, 2))))
 
 # Values that are no moves of the sheet with net, tax and total.
 NO_MOVES = (
     *ODD_VALUES, FIRST[::-1], FIRST[:1], (*FIRST, FIRST[1]), (FIRST[0], *FIRST), (*FIRST, ("total", (0, 1))),
-    (("net", (1, 1)), ("tax", (0, 1)), ("total", (1, 1))), (("net", 1), ("tax", -1)), (("net", (2, 2)), ("tax", (-1, 1))),
-    (("net", (1, 1)), ("tax", (1, 1))), (("net", (1, 1)), ("tax", (1, 1)), ("total", (1, 1))), (["net", (1, 1)], ("tax", (-1, 1))),
+    (("net", (1, 1)), ("tax", (0, 1)), ("total", (1, 1))), (("net", 1), ("tax", -1)),
+    (("net", (2, 2)), ("tax", (-1, 1))),
+    (("net", (1, 1)), ("tax", (1, 1))), (("net", (1, 1)), ("tax", (1, 1)), ("total", (1, 1))),
+    (["net", (1, 1)], ("tax", (-1, 1))),
     (("net", [1, 1]), ("tax", (-1, 1))), (("net", (True, 1)), ("tax", (-1, 1))), (("net", (1, 1)), ("tax", (-1, True))),
     (("net", (1, 1), 1), ("tax", (-1, 1))), (("net",), ("tax",)), (("none", (1, 1)),), ("net", (1, 1)), ("net", "tax"),
-    ((["net"], (1, 1)), ("tax", (-1, 1))), (("net", "1"), ("tax", (-1, 1))), (("net", None), ("tax", None)), (FIRST, SECOND),
+    ((["net"], (1, 1)), ("tax", (-1, 1))), (("net", "1"), ("tax", (-1, 1))), (("net", None), ("tax", None)),
+    (FIRST, SECOND),
     (("total", (1, 1)),), (("net", (-1, -1)), ("tax", (-1, 1))), {"net": (1, 1)}, (("sum", (1, 1)),),
 )
 
@@ -39,7 +43,8 @@ def rank(vectors):
         for pivot in [row for row in vectors[found:] if row[at]]:
             vectors.remove(pivot)
             vectors.insert(found, pivot)
-            vectors[found + 1:] = [[one - row[at] / pivot[at] * two for one, two in zip(row, pivot)] for row in vectors[found + 1:]]
+            rest = [(row, row[at] / pivot[at]) for row in vectors[found + 1:]]
+            vectors[found + 1:] = [[one - share * two for one, two in zip(row, pivot)] for row, share in rest]
             found += 1
             break
     return found
@@ -82,7 +87,8 @@ class MoveTest(Case):
         self.assertIs(is_move(Sheet(), FIRST), False)
 
     def test_constants_of_formulas_have_no_part(self):
-        sheet = Sheet([("a", "input", 1), ("b", "formula", "2*a + 5"), ("c", "formula", "b - a*2"), ("d", "formula", "7")])
+        sheet = Sheet([("a", "input", 1), ("b", "formula", "2*a + 5"), ("c", "formula", "b - a*2"),
+            ("d", "formula", "7")])
         self.assertIs(is_move(sheet, (("a", (1, 1)), ("b", (2, 1)))), True)
         self.assertIs(is_move(sheet, (("a", (1, 1)), ("b", (7, 1)))), False)
         self.assertIs(is_move(sheet, (("a", (1, 1)), ("b", (2, 1)), ("c", (1, 1)))), False)
@@ -101,7 +107,8 @@ class MoveTest(Case):
         for name in NO_NAMES:
             for call in (is_move, split_move):
                 self.check_error(errors.UnknownCell, {"name": name}, call, TOTAL, None, held=["net", name, "other"])
-            self.check_error(errors.UnknownCell, {"name": name}, is_split, TOTAL, None, None, held=("net", name, "other"))
+            self.check_error(errors.UnknownCell, {"name": name}, is_split, TOTAL, None, None,
+                held=("net", name, "other"))
             self.check_error(errors.UnknownCell, {"name": name}, elementary_moves, TOTAL, held=(name, "other"))
 
 
@@ -110,7 +117,8 @@ class BetweenTest(Case):
     def test_move_between(self):
         own = TOTAL.own_table()
         for table, move in (
-            (own, ()), ((("net", 101), ("tax", 19), ("total", 120)), FIRST), ([("net", 103), ("tax", 19), ("total", 122)], GENERAL),
+            (own, ()), ((("net", 101), ("tax", 19), ("total", 120)), FIRST),
+            ([("net", 103), ("tax", 19), ("total", 122)], GENERAL),
             ((("net", (199, 2)), ("tax", 20), ("total", (239, 2))), (("net", (-1, 2)), ("total", (-1, 2)))),
         ):
             self.assertEqual(move_between(TOTAL, own, table), move)
@@ -120,7 +128,8 @@ class BetweenTest(Case):
         self.assertEqual(move_between(Sheet(), (), []), ())
         # In ascending order of the names, not in the order of the rows.
         sheet = Sheet([("b", "input", 1), ("a", "input", 2)])
-        self.assertEqual(move_between(sheet, (("b", 1), ("a", 2)), (("b", 2), ("a", 4))), (("a", (2, 1)), ("b", (1, 1))))
+        self.assertEqual(move_between(sheet, (("b", 1), ("a", 2)), (("b", 2), ("a", 4))),
+            (("a", (2, 1)), ("b", (1, 1))))
 
     def test_values_that_are_no_tables(self):
         own = TOTAL.own_table()
@@ -131,7 +140,8 @@ class BetweenTest(Case):
 
     def test_moved(self):
         for factor, numbers in (
-            (0, (100, 20)), ((0, 1), (100, 20)), (1, (103, 19)), (-2, (94, 22)), ((1, 2), ((203, 2), (39, 2))), ((-1, 3), (99, (61, 3))),
+            (0, (100, 20)), ((0, 1), (100, 20)), (1, (103, 19)), (-2, (94, 22)), ((1, 2), ((203, 2), (39, 2))),
+            ((-1, 3), (99, (61, 3))),
         ):
             expected = TOTAL.with_input("net", numbers[0]).with_input("tax", numbers[1])
             self.assertEqual(moved(TOTAL, GENERAL, factor), expected)
@@ -146,6 +156,7 @@ class BetweenTest(Case):
         for value in ODD_VALUES:
             if value not in (0, 7) or isinstance(value, bool):
                 self.check_error(errors.InvalidNumber, {"value": value}, moved, TOTAL, FIRST, value)
+                self.check_error(errors.InvalidNumber, {"value": value}, moved, Sheet(), (), value)
 
 
 class ElementaryTest(Case):
@@ -239,7 +250,8 @@ class SplitTest(Case):
     def test_moves_of_one_and_of_several_elementary_moves(self):
         self.assertEqual(self.check(TOTAL, ()), ())
         self.assertEqual(self.check(TOTAL, FIRST), ((FIRST, (1, 1)),))
-        self.assertEqual(self.check(TOTAL, (("net", (-5, 2)), ("tax", (5, 2)))), (((("net", (-1, 1)), ("tax", (1, 1))), (5, 2)),))
+        self.assertEqual(self.check(TOTAL, (("net", (-5, 2)), ("tax", (5, 2)))),
+            (((("net", (-1, 1)), ("tax", (1, 1))), (5, 2)),))
         self.assertEqual(len(self.check(TOTAL, GENERAL)), 2)
         self.assertEqual(self.check(Sheet(), ()), ())
         for move in MOVES:
@@ -282,13 +294,17 @@ class SplitTest(Case):
         minus = (("net", (-1, 1)), ("tax", (1, 1)))
         self.assertIs(is_split(TOTAL, GENERAL, (one, two)), True)
         for parts in (
-            (one,), (two,), (), (one, two, (THIRD, (1, 1))), (one, two, one), (one, one, two), (one, (SECOND, (1, 1)), (SECOND, (1, 1))),
+            (one,), (two,), (), (one, two, (THIRD, (1, 1))), (one, two, one), (one, one, two),
+            (one, (SECOND, (1, 1)), (SECOND, (1, 1))),
             (one, two, (FIRST, (0, 1))), (one, (SECOND, (0, 1))), ((FIRST, (-1, 1)), two), ((minus, (-1, 1)), two),
             ((FIRST, (2, 1)), (SECOND, (1, 1)), (THIRD, (1, 1))), ((FIRST, (1, 2)), two), (one, (SECOND, (3, 1))),
-            ((FIRST, 1), two), ((FIRST, (2, 2)), two), ((FIRST, [1, 1]), two), ([FIRST, (1, 1)], two), ((FIRST, (True, 1)), two),
-            ((list(FIRST), (1, 1)), two), ((FIRST, (1, 1), 1), two), ((FIRST,), two), (FIRST, SECOND), (None, two), ((None, (1, 1)), two),
+            ((FIRST, 1), two), ((FIRST, (2, 2)), two), ((FIRST, [1, 1]), two), ([FIRST, (1, 1)], two),
+            ((FIRST, (True, 1)), two),
+            ((list(FIRST), (1, 1)), two), ((FIRST, (1, 1), 1), two), ((FIRST,), two), (FIRST, SECOND), (None, two),
+            ((None, (1, 1)), two),
             (((("net", (True, 1)), ("tax", (-1, 1))), (1, 1)), two), (((("net", 1), ("tax", -1)), (1, 1)), two),
-            ((GENERAL, (1, 1)),), (((("net", (2, 1)), ("tax", (-2, 1))), (1, 2)), two), ((FIRST, "1"), two), ((FIRST, None), two),
+            ((GENERAL, (1, 1)),), (((("net", (2, 1)), ("tax", (-2, 1))), (1, 2)), two), ((FIRST, "1"), two),
+            ((FIRST, None), two),
             (((("tax", (-1, 1)), ("net", (1, 1))), (1, 1)), two), ((("a",), (1, 1)), two), (((), (1, 1)), one, two),
         ):
             with self.subTest(parts=parts):
@@ -309,7 +325,28 @@ class SplitTest(Case):
         move = (("a", (2, 1)), ("b", (1, 1)), ("c", (4, 1)))
         parts = (((("a", (1, 1)), ("c", (1, 1))), (4, 1)), ((("a", (-2, 1)), ("b", (1, 1))), (1, 1)))
         self.assertIs(is_split(sheet, move, parts), False)
+        parts = (
+            ((("a", (1, 1)), ("c", (1, 1))), (1, 1)), ((("a", (2, 1)), ("b", (-1, 1))), (1, 2)),
+            ((("b", (1, 1)), ("c", (2, 1))), (3, 2)),
+        )
+        self.assertIs(is_split(sheet, move, parts), False)
+        self.assertIs(is_split(sheet, move, (parts[0], parts[2])), False)
+        self.assertIs(is_split(sheet, move, ((parts[0][0], (2, 1)), (parts[2][0], (1, 1)))), True)
         self.check(sheet, move)
+
+    def test_ratios_that_are_not_above_0(self):
+        """The sum is right, and all parts go along with the move."""
+        sheet = Sheet([("a", "input", 0), ("b", "input", 0), ("c", "input", 0), ("d", "formula", "a + b - c")])
+        move = tuple([(name, (2, 1)) for name in "abcd"])
+        pairs = [((one, (1, 1)), (two, (1, 1))) for one in "ab" for two in "cd"]
+        for tops, expected in (
+            ((1, 1, 1, 1), True), ((2, 0, 0, 2), False), ((3, -1, -1, 3), False), ((0, 2, 2, 0), False),
+            ((-1, 3, 3, -1), False),
+        ):
+            parts = tuple([(each, (top, 1)) for each, top in zip(pairs, tops)])
+            self.assertIs(is_split(sheet, move, parts), expected)
+            more = tuple([part for part in parts if part[1] != (0, 1)])
+            self.assertIs(is_split(sheet, move, more), min(tops) >= 0)
 
     def test_a_pair_too_many(self):
         """Six cells, and nine elementary moves that add up to the move."""

@@ -17,7 +17,8 @@ HUGE = 10 ** 5000
 
 # Values that are no numbers, no rows, no tables and no pairs of a table.
 ODD_VALUES = (
-    None, True, False, "", "a", "3", (), [], ((),), (2, 4), (1, 0), (1, -2), (1, 2, 3), [1, 2], (1,), ("a", 3), ["a", 3],
+    None, True, False, "", "a", "3", (), [], ((),), (2, 4), (1, 0), (1, -2), (1, 2, 3), [1, 2], (1,), ("a", 3),
+    ["a", 3],
     (True, 1), (1, True), ("1", "2"), (None, None), [[("a", 3)]], (("a",),),
 )
 
@@ -140,7 +141,8 @@ class MakingSheetsTest(SheetTest):
                         errors.CircularCell, name="a")
 
     def test_formulas_that_name_later_rows_or_one_cell_in_several_ways(self):
-        sheet = Sheet([("d", "formula", "b + c"), ("b", "formula", "a + c"), ("c", "formula", "2*a"), ("a", "input", 1)])
+        sheet = Sheet([("d", "formula", "b + c"), ("b", "formula", "a + c"), ("c", "formula", "2*a"),
+            ("a", "input", 1)])
         self.assertEqual(sheet.own_table(), (("d", (5, 1)), ("b", (3, 1)), ("c", (2, 1)), ("a", (1, 1))))
 
     def test_long_numbers_and_many_cells(self):
