@@ -2,7 +2,7 @@
 
 from itertools import combinations
 
-from backsheet.conditions import above_form, checked_held, checked_sides
+from backsheet.conditions import above_form, checked_names, checked_sides
 from backsheet.errors import NotInput
 from backsheet.extremes import table_of
 from backsheet.ranges import nearest_in
@@ -25,7 +25,7 @@ def solve(sheet, wishes, *, held=(), limits=()):
     answer = table_of(sheet, sides)
     if answer[0] == "refused":
         return answer
-    kept = checked_held(sheet, held)
+    kept = checked_names(sheet, held)
     free = [name for name in sorted(sheet.input_names()) if name not in kept]
     names = first_enough(sheet, sides, free)
     return ("done", sheet.with_table(nearest_table(sheet, sides, free, names)))

@@ -51,7 +51,7 @@ def checked_sides(sheet, wishes, held, limits):
     sides = {}
     for name, number in checked_wishes(sheet, wishes):
         sides[("wish", name)] = above_form(name, number)
-    for name in checked_held(sheet, held):
+    for name in checked_names(sheet, held):
         sides[("held", name)] = above_form(name, sheet.value_of(name))
     for name, low, high in checked_limits(sheet, limits):
         if low is not None:
@@ -95,11 +95,11 @@ def check_new_name(sheet, name, checked):
         raise DuplicateCell(name)
 
 
-def checked_held(sheet, held):
-    """Return the names of held cells, each once, in ascending order."""
-    for name in held:
+def checked_names(sheet, names):
+    """Return names of cells, each once, in ascending order."""
+    for name in names:
         sheet.check_name(name)
-    return tuple(sorted(set(held)))
+    return tuple(sorted(set(names)))
 
 
 def checked_limits(sheet, limits):

@@ -3,8 +3,8 @@
 The conditions are passed as pairs of a condition and its left side.
 """
 
-from backsheet.conditions import sum_of_sides
-from backsheet.forms import add_forms, constant_form, names_in, scale_form, subtract_forms, value_at
+from backsheet.conditions import checked_sides, sum_of_sides
+from backsheet.forms import add_forms, constant_form, factor_in, names_in, scale_form, subtract_forms, value_at
 from backsheet.moves import move_by_inputs
 from backsheet.ratios import ZERO, add, multiply
 from backsheet.sheets import filled_table, replaced_form
@@ -67,6 +67,11 @@ def present_table(sheet, system):
     return filled_table(sheet, numbers)
 
 
+def formula_weights(sheet, form):
+    """Return the weights of formulas whose sum is a form that is 0 in every table."""
+    return full_weights(sheet, checked_sides(sheet, (), (), ()), {}, form)
+
+
 def full_weights(sheet, sides, weights, form):
     """Return weights with those of the formulas that leave no cells in the sum but those of a form."""
     full = {condition: weights[condition] for condition in weights}
@@ -74,7 +79,7 @@ def full_weights(sheet, sides, weights, form):
     rest = subtract_forms(sum_of_sides(sides, list(weights.items())), form)
     # Each cell comes ahead of those that its form names, so that none comes back.
     for name in reversed(sheet.ordered_names()):
-        factor = dict(rest[0]).get(name, ZERO)
+        factor = factor_in(rest, name)
         # Of the inputs none is left when their turn comes.
         if factor != ZERO:
             condition = ("formula", name)

@@ -51,6 +51,11 @@ def names_in(form):
     return tuple([name for name, _ in form[0]])
 
 
+def factor_in(form, name):
+    """Return how often a form has a cell in it."""
+    return dict(form[0]).get(name, ZERO)
+
+
 def add_forms(one, other):
     """Return the form of the sum of two forms."""
     one_terms, one_constant = one
@@ -80,7 +85,7 @@ def scale_form(number, form):
 def substituted(form, name, other):
     """Return a form with another form once in the place of a cell."""
     terms, constant = form
-    factor = dict(terms).get(name, ZERO)
+    factor = factor_in(form, name)
     rest = tuple([term for term in terms if term[0] != name])
     return add_forms((rest, constant), scale_form(factor, other))
 

@@ -1,18 +1,16 @@
 """Moves: changes of cells that lead from each table to another one."""
 
-from math import gcd
-
-from backsheet.conditions import checked_held
+from backsheet.conditions import checked_names
 from backsheet.errors import InvalidMove, InvalidNumber, InvalidTable
-from backsheet.forms import change_at
-from backsheet.ratios import ONE, ZERO, add, compare, divide, is_number, is_ratio, multiply, subtract
+from backsheet.forms import change_at, factor_in
+from backsheet.ratios import ZERO, add, compare, divide, is_number, is_ratio, multiply, subtract
 from backsheet.sheets import is_table
-from backsheet.systems import whole_scale
+from backsheet.vectors import elementary_vectors, still_vectors, whole_vector
 
 
 def is_move(sheet, value, *, held=()):
     """Return whether any value is a move that keeps held cells."""
-    kept = checked_held(sheet, held)
+    kept = checked_names(sheet, held)
     if not isinstance(value, (tuple, list)) or not all([is_change(sheet, part) for part in value]):
         return False
     names = [name for name, _ in value]
@@ -67,63 +65,23 @@ def moved_table(table, move, factor):
 
 def elementary_moves(sheet, *, held=()):
     """Return all elementary moves among those that keep held cells."""
-    kept = checked_held(sheet, held)
+    kept = checked_names(sheet, held)
     names = sorted(sheet.cell_names())
     vectors = [input_vector(sheet, names, name) for name in sheet.input_names()]
     for name in kept:
         vectors = still_vectors(vectors, names.index(name))
-    found = {}
-    collect_moves(names, vectors, 0, found)
-    return tuple([found[each] for each in sorted(found)])
+    moves = {}
+    for at in range(len(names)):
+        for vector in elementary_vectors(vectors, at):
+            pairs = [(name, (number, 1)) for name, number in zip(names, vector) if number != 0]
+            moves[tuple([name for name, _ in pairs])] = tuple(pairs)
+        vectors = still_vectors(vectors, at)
+    return tuple([moves[each] for each in sorted(moves)])
 
 
 def input_vector(sheet, names, name):
     """Return how cells change with one input, as integers."""
-    changes = [(each, ONE if each == name else ZERO) for each in sheet.input_names()]
-    numbers = [change_at(sheet.form_by_inputs(each), changes) for each in names]
-    scale = whole_scale(numbers)
-    return reduced_vector([multiply(scale, number)[0] for number in numbers])
-
-
-def reduced_vector(vector):
-    """Return integers, not all 0, without a common divisor, the first one other than 0 above 0."""
-    common = 0
-    for number in vector:
-        common = gcd(common, number)
-    first = [number for number in vector if number != 0][0]
-    sign = -1 if first < 0 else 1
-    return [sign * number // common for number in vector]
-
-
-def still_vectors(vectors, at):
-    """Return vectors that span those of the sums of vectors that are 0 at a place."""
-    moving = [vector for vector in vectors if vector[at] != 0]
-    still = [vector for vector in vectors if vector[at] == 0]
-    if moving != []:
-        last = moving[-1]
-        still.extend([cancelled_vector(vector, last, at) for vector in moving[:-1]])
-    return still
-
-
-def cancelled_vector(vector, other, at):
-    """Return a sum of multiples of two vectors that is 0 at a place."""
-    return reduced_vector([other[at] * one - vector[at] * two for one, two in zip(vector, other)])
-
-
-def collect_moves(names, vectors, first, found):
-    """Find the sums of vectors that are 0 at as many cells as can be, from a first place on.
-
-    What is 0 at one independent cell less than there are vectors is one
-    elementary move with its multiples, and each elementary move is found so.
-    """
-    if len(vectors) == 1:
-        pairs = [(name, (number, 1)) for name, number in zip(names, vectors[0]) if number != 0]
-        found[tuple([name for name, _ in pairs])] = tuple(pairs)
-        return
-    for at in range(first, len(names)):
-        still = still_vectors(vectors, at)
-        if 0 < len(still) < len(vectors):
-            collect_moves(names, still, at + 1, found)
+    return whole_vector([factor_in(sheet.form_by_inputs(each), name) for each in names])
 
 
 def split_move(sheet, move, *, held=()):

@@ -1,10 +1,11 @@
 """Systems of equations and bounds, solved with integers alone."""
 
-from math import gcd, lcm
+from math import lcm
 
 from backsheet.conditions import BOUND_WORDS
 from backsheet.forms import scale_form
 from backsheet.ratios import ONE, ZERO, divide, multiply, ratio
+from backsheet.vectors import whole_scale
 
 # Quantities have labels of two strings: the conditions, and these.
 CONSTANT = ("constant", "")
@@ -170,16 +171,6 @@ class System:
         if label in self.lines:
             return ratio(self.lines[label][column], self.bottom)
         return ONE if self.columns[column] == label else ZERO
-
-
-def whole_scale(numbers):
-    """Return the least ratio above 0 that makes integers without a common divisor of ratios."""
-    above, below = 0, 1
-    for top, bottom in numbers:
-        above = gcd(above, top)
-        below = lcm(below, bottom)
-    # The ratios are in lowest terms, so a divisor of all tops divides no bottom.
-    return ratio(below, max(above, 1))
 
 
 def exchanged_line(line, row, column, bottom):

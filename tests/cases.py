@@ -189,6 +189,59 @@ def solution(sheet, wishes, held=(), limits=()):
     return None
 
 
+def rank(vectors):
+    """The rank of vectors of Fractions."""
+    vectors = [list(vector) for vector in vectors]
+    found = 0
+    for at in range(len(vectors[0]) if vectors else 0):
+        for pivot in [row for row in vectors[found:] if row[at]]:
+            vectors.remove(pivot)
+            vectors.insert(found, pivot)
+            rest = [(row, row[at] / pivot[at]) for row in vectors[found + 1:]]
+            vectors[found + 1:] = [[one - share * two for one, two in zip(row, pivot)] for row, share in rest]
+            found += 1
+            break
+    return found
+
+
+def moves_by_inputs(sheet):
+    """One move, as a dict of Fractions, for each input."""
+    found = []
+    for name in sheet.input_names():
+        terms = [(each, dict(sheet.form_by_inputs(each)[0]).get(name, (0, 1))) for each in sheet.cell_names()]
+        found.append({each: Fraction(*number) for each, number in terms})
+    return found
+
+
+def dimension(sheet, cells):
+    """How many independent moves change no other cells than these."""
+    moves = moves_by_inputs(sheet)
+    others = [[move[name] for move in moves] for name in sheet.cell_names() if name not in cells]
+    return len(moves) - rank(others)
+
+
+def vectors_of(sheet, names):
+    """How much each of some cells changes with each input."""
+    moves = moves_by_inputs(sheet)
+    return [[move[name] for move in moves] for name in names]
+
+
+def is_fixed(sheet, names, name):
+    """Whether some cells fix a cell: its changes are sums of multiples of theirs."""
+    vectors = vectors_of(sheet, names)
+    return rank([*vectors, *vectors_of(sheet, [name])]) == rank(vectors)
+
+
+def some_tables(sheet):
+    """The own table and others, so many that a form by the inputs that is 0 in all of them is 0."""
+    tables = [sheet.own_table()]
+    for at, name in enumerate(sheet.input_names()):
+        tables.append(sheet.with_input(name, (2 * at + 1, 2)).own_table())
+        sheet = sheet.with_input(name, 7 - at)
+        tables.append(sheet.own_table())
+    return tables
+
+
 def random_sheet(source, inputs=3, computed=3):
     """A sheet with small numbers in which many things cancel."""
     names = source.sample("abcdefghijkl", inputs + computed)

@@ -35,37 +35,6 @@ NO_MOVES = (
 )
 
 
-def rank(vectors):
-    """The rank of vectors of Fractions."""
-    vectors = [list(vector) for vector in vectors]
-    found = 0
-    for at in range(len(vectors[0]) if vectors else 0):
-        for pivot in [row for row in vectors[found:] if row[at]]:
-            vectors.remove(pivot)
-            vectors.insert(found, pivot)
-            rest = [(row, row[at] / pivot[at]) for row in vectors[found + 1:]]
-            vectors[found + 1:] = [[one - share * two for one, two in zip(row, pivot)] for row, share in rest]
-            found += 1
-            break
-    return found
-
-
-def moves_by_inputs(sheet):
-    """One move, as a dict of Fractions, for each input."""
-    found = []
-    for name in sheet.input_names():
-        terms = [(each, dict(sheet.form_by_inputs(each)[0]).get(name, (0, 1))) for each in sheet.cell_names()]
-        found.append({each: Fraction(*number) for each, number in terms})
-    return found
-
-
-def dimension(sheet, cells):
-    """How many independent moves change no other cells than these."""
-    moves = moves_by_inputs(sheet)
-    others = [[move[name] for move in moves] for name in sheet.cell_names() if name not in cells]
-    return len(moves) - rank(others)
-
-
 class MoveTest(Case):
 
     def check(self, value, expected, **held):
@@ -176,7 +145,7 @@ class ElementaryTest(Case):
             expected = []
             for cells in [each for size in range(1, len(free) + 1) for each in itertools.combinations(free, size)]:
                 smaller = [[each for each in cells if each != name] for name in cells]
-                if dimension(sheet, cells) == 1 and all(dimension(sheet, each) == 0 for each in smaller):
+                if cases.dimension(sheet, cells) == 1 and all(cases.dimension(sheet, each) == 0 for each in smaller):
                     expected.append(cells)
             self.assertEqual(supports, sorted(expected))
         return found
@@ -217,7 +186,7 @@ class ElementaryTest(Case):
         self.assertGreater(len(found), 100)
         for move in found[::29]:
             cells = [name for name, _ in move]
-            self.assertEqual(dimension(LARGE, cells), 1)
+            self.assertEqual(cases.dimension(LARGE, cells), 1)
         self.assertGreater(len(found), len(self.check(LARGE, held=["j"])))
 
 
