@@ -46,6 +46,23 @@ FUNCTIONS = {
         "elementary_moves(sheet, *, held=())", "split_move(sheet, move, *, held=())",
         "is_split(sheet, move, parts, *, held=())",
     ),
+    "wishes": (
+        "largest_wishes(sheet, wishes, *, held=(), limits=())", "smallest_clashes(sheet, wishes, *, held=(), limits=())",
+        "wishes_in_order(sheet, wishes, *, held=(), limits=())",
+    ),
+    "reasons": ("fixed_cells(sheet, names)", "smallest_fixing(sheet, names, name)", "releases(sheet, names, name)"),
+    "roles": (
+        "determined(sheet, names, name)", "independent(sheet, names)", "exchange(sheet, name, computed)",
+        "rebased(sheet, names)",
+    ),
+    "compare": (
+        "follows(sheet, form)", "same_tables(one, other)", "joined(one, other)", "is_join_refusal(one, other, weights)",
+    ),
+    "desk": ("replay(sheet, operations)",),
+    "formatting": (
+        "table_text(table)", "read_table(text)", "sheet_text(sheet)", "read_sheet(text)", "limits_text(limits)",
+        "read_limits(text)", "weights_text(weights)", "read_weights(text)", "desk_text(desk)", "read_desk(text)",
+    ),
 }
 METHODS = {
     "sheets.Sheet": (
@@ -54,6 +71,15 @@ METHODS = {
         "own_table(self)", "value_of(self, name)", "with_input(self, name, number)", "with_table(self, table)",
         "with_row(self, row)", "without_cell(self, name)", "__len__(self)", "__eq__(self, other)",
     ),
+    "desk.Desk": (
+        "__init__(self, sheet)", "present_sheet(self)", "present_table(self)", "value_of(self, name)",
+        "held_cells(self)", "present_limits(self)", "mark_words(self)", "copy(self)", "add_input(self, name, number)",
+        "add_formula(self, name, text)", "remove(self, name)", "set_values(self, wishes)", "define(self, name, text)",
+        "hold(self, name)", "free(self, name)", "limit(self, name, low, high)", "unlimit(self, name)",
+        "exchange_roles(self, name, computed)", "rename(self, name, other)", "back(self, word)", "mark(self, word)",
+        "undo(self)", "redo(self)", "history(self)", "__len__(self)", "__eq__(self, other)",
+    ),
+    "console.Console": ("__init__(self)", "enter(self, line)", "desk_copy(self)"),
 }
 
 
