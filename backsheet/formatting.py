@@ -147,9 +147,9 @@ def read_number(text):
 
 def read_entry(part):
     """Read a pair of a name and a number, or return None."""
-    name, mark, digits = part.partition(" = ")
+    name, _, digits = part.partition(" = ")
     number = read_number(digits)
-    if mark == "" or not is_name(name) or number is None:
+    if not is_name(name) or number is None:
         return None
     return (name, number)
 
@@ -157,8 +157,8 @@ def read_entry(part):
 def read_row(line):
     """Read a row of a sheet, or return None."""
     word, _, rest = line.partition(" ")
-    name, mark, content = rest.partition(" = ")
-    if mark == "" or not is_name(name):
+    name, _, content = rest.partition(" = ")
+    if not is_name(name):
         return None
     if word == "cell" and content != "":
         return (name, "formula", content)

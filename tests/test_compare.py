@@ -14,7 +14,8 @@ from backsheet.formulas import parse_formula
 from backsheet.roles import exchange, rebased
 from backsheet.sheets import Sheet, is_table
 
-CHAIN = Sheet([("d", "formula", "c - 2*b"), ("a", "input", 1), ("c", "formula", "3*b + a"), ("b", "formula", "a*2 + 5")])
+CHAIN = Sheet([("d", "formula", "c - 2*b"), ("a", "input", 1), ("c", "formula", "3*b + a"),
+               ("b", "formula", "a*2 + 5")])
 ONE = Sheet([("a", "input", 1), ("b", "formula", "a + 1")])
 TWO = Sheet([("a", "input", 1), ("b", "formula", "a + 2")])
 REFUSAL = (((0, "b"), (-1, 1)), ((1, "b"), (1, 1)))
@@ -74,7 +75,8 @@ class FollowsTest(CompareCase):
 
     def test_forms_that_do_not(self):
         self.assertEqual(self.check(TOTAL, "net", "table"), TOTAL.own_table())
-        for text in ("net - 100", "total - 120", "net + tax - 120", "total - 6*tax", "net - tax*5", "total - net - tax + 1",
+        for text in ("net - 100", "total - 120", "net + tax - 120", "total - 6*tax", "net - tax*5",
+                     "total - net - tax + 1",
                      "total - net", "net - tax", "1/7*total - 120/7"):
             self.check(TOTAL, text, "table")
         for text in ("a - 1", "b - 7", "c - 22", "d - 8", "a - b/7", "c - b*3 - 1", "d - 8*a", "b - 2*a - 6"):
@@ -125,7 +127,8 @@ class FollowsTest(CompareCase):
             (good, (True, 1)), (good, [0, 1]), ((*good, *good), (0, 1)), (((("net",), (1, 1)),), (0, 1)),
             ((("tax", (1, 1)), ("net", (1, 1))), (0, 1)), ((("sum", (1, 1)),), (0, 1)), ((("Net", (1, 1)),), (0, 1)),
             ((("nets", (1, 1)), ("net",)), (0, 1)), (((None, (1, 1)),), (0, 1)), ("", (0, 1)), (None, (0, 1)),
-            ((("abcdefghi", (1, 1)),), (0, 1)), ((("net", (1, 1), 1),), (0, 1)), ((), None), ((("none", (1, 0)),), (0, 1)),
+            ((("abcdefghi", (1, 1)),), (0, 1)), ((("net", (1, 1), 1),), (0, 1)), ((), None),
+            ((("none", (1, 0)),), (0, 1)),
         ):
             with self.subTest(value=value):
                 self.assertFalse(is_form(value))
@@ -435,7 +438,9 @@ class JoinRefusalTest(Case):
             (((0, "a"), (-1, 1)), second), (((0, "none"), (-1, 1)), second), (((0, None), (-1, 1)), second),
             (((0, ["b"]), (-1, 1)), second), (((0, ("b",)), (-1, 1)), second), (((2, "b"), (-1, 1)), second),
             (((-1, "b"), (-1, 1)), second), ((("0", "b"), (-1, 1)), second), (((None, "b"), (-1, 1)), second),
-            (((0, "b"), (0, 1)), second), (((0, "b"), (0, 1)), ((1, "b"), (0, 1))), ((("formula", "b"), (-1, 1)), second),
+            (((0, "b"), (0, 1)), second), (((0, "b"), (0, 1)), ((1, "b"), (0, 1))),
+            (((0, "b"), (-1, 2)), ((0, "b"), (-1, 2)), second), (first, ((1, "b"), (-1, 1)), ((1, "b"), (2, 1))),
+            ((("formula", "b"), (-1, 1)), second),
             (None, second), (first, 5), ("ab", second), ((((0,), "b"), (-1, 1)), second),
         ):
             self.check(value, False)
@@ -457,6 +462,10 @@ class JoinRefusalTest(Case):
         self.check((((0, "c"), (-1, 1)), ((1, "c"), (1, 1))), False, one, other)
         self.check((((0, "c"), (1, 1)), ((0, "d"), (1, 1)), ((1, "c"), (-1, 1))), False, one, other)
         self.check((((0, "d"), (1, 1)),), False, one, other)
+        # A ratio of zero and the wrong order change no sum.
+        self.check((((0, "b"), (0, 1)), ((0, "c"), (1, 1)), ((1, "c"), (-1, 1))), False, one, other)
+        self.check((((0, "c"), (1, 1)), ((1, "c"), (-1, 1)), ((1, "d"), (0, 1))), False, one, other)
+        self.check((((1, "c"), (-1, 1)), ((0, "c"), (1, 1))), False, one, other)
         self.check((((0, "b"), (-3, 1)), ((0, "c"), (1, 1)), ((1, "b"), (3, 1)), ((1, "c"), (-1, 1))), True, one, other)
 
 

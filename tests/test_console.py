@@ -24,7 +24,8 @@ FORMS = [
 
 # One command for each row of the table, all good for the desk of worked().
 COMMANDS = (
-    "input x 1", "cell x a + b", "define total a - b", "remove total", "rename a z", "set total 9", "set b 3/2 total 4.5",
+    "input x 1", "cell x a + b", "define total a - b", "remove total", "rename a z", "set total 9",
+    "set b 3/2 total 4.5",
     "hold b", "free a", "limit b - 5", "limit total -2.5 -", "limit b - -", "unlimit b", "exchange b total", "mark m",
     "back late", "undo", "redo", "value total", "least b", "greatest total", "why total 6", "show", "steps",
 )
@@ -110,9 +111,12 @@ class CommandsTest(ConsoleCase):
         console = Console()
         self.check(
             console, ("input net 100", "ok"), ("input tax 20", "ok"), ("cell total net + tax", "ok"),
-            ("set total 130", "net = 110"), ("set total 130", "ok"), ("set tax -1/3 total 50", "net = 151/3, tax = -1/3"),
-            ("hold total", "ok"), ("define total 2*net + 3*tax", "net = 51/2"), ("define total net*2 - 1 + tax*3 + 1", "ok"),
-            ("limit tax 1 2", "net = 47/2, tax = 1"), ("limit tax - -", "ok"), ("limit net 20.5 23", "net = 23, tax = 4/3"),
+            ("set total 130", "net = 110"), ("set total 130", "ok"),
+            ("set tax -1/3 total 50", "net = 151/3, tax = -1/3"),
+            ("hold total", "ok"), ("define total 2*net + 3*tax", "net = 51/2"),
+            ("define total net*2 - 1 + tax*3 + 1", "ok"),
+            ("limit tax 1 2", "net = 47/2, tax = 1"), ("limit tax - -", "ok"),
+            ("limit net 20.5 23", "net = 23, tax = 4/3"),
             ("free total", "ok"), ("define tax net", "ok"), ("unlimit net", "ok"), ("set total 0.00", "net = 0"),
             ("exchange net total", "ok"),
             ("show", "cell net = 1/5*total | cell tax = net | input total = 0 | limits tax"),
@@ -122,9 +126,11 @@ class CommandsTest(ConsoleCase):
     def test_marks_and_steps(self):
         console = Console()
         self.check(console, ("mark empty", "ok"), ("input a 1", "ok"), ("mark one", "ok"), ("set a 5", "a = 5"),
-                   ("back one", "ok"), ("value a", "1"), ("steps", "3"), ("undo", "ok"), ("value a", "5"), ("undo", "ok"),
+                   ("back one", "ok"), ("value a", "1"), ("steps", "3"), ("undo", "ok"), ("value a", "5"),
+                   ("undo", "ok"),
                    ("value a", "1"), ("redo", "ok"), ("value a", "5"), ("steps", "2"), ("back empty", "ok"),
-                   ("show", "empty"), ("steps", "3"), ("mark one", "ok"), ("undo", "ok"), ("redo", "ok"), ("show", "empty"),
+                   ("show", "empty"), ("steps", "3"), ("mark one", "ok"), ("undo", "ok"), ("redo", "ok"),
+                   ("show", "empty"),
                    ("hold a", "error UnknownCell"), ("undo", "ok"), ("hold a", "ok"), ("free a", "ok"), ("steps", "4"))
 
     def test_questions(self):
@@ -144,9 +150,11 @@ class CommandsTest(ConsoleCase):
             answer = console.enter(line)
             self.assertEqual(answer, shown)
             weights = read_weights(answer.removeprefix("refused "))
-            self.assertIs(is_refusal(desk.present_sheet(), weights, wishes=[wish], held=["a"], limits=[("b", 0, 50)]), True)
+            self.assertIs(is_refusal(desk.present_sheet(), weights, wishes=[wish], held=["a"], limits=[("b", 0, 50)]),
+                          True)
         self.assertEqual(told(console.desk_copy()), before)
-        self.check(console, ("free a", "ok"), ("unlimit b", "ok"), ("least b", "endless"), ("greatest total", "endless"),
+        self.check(console, ("free a", "ok"), ("unlimit b", "ok"), ("least b", "endless"),
+                   ("greatest total", "endless"),
                    ("limit a - 3.5", "ok"), ("greatest a", "7/2"), ("least a", "endless"),
                    ("why total 11", "possible b = 8"), ("limit b - 7", "ok"), ("why total 10.25", "possible a = 13/4"),
                    ("why total 10.5", "possible a = 7/2"), ("limit a - 3.25", "ok"), ("limit b - 7.5", "ok"),
@@ -171,7 +179,8 @@ class CommandsTest(ConsoleCase):
     def test_long_numbers(self):
         console = Console()
         digits = "7" * 4999
-        self.check(console, ("input a -1/" + digits, "ok"), ("value a", "-1/" + digits), ("cell b a*a/a", "error BadFormula"),
+        self.check(console, ("input a -1/" + digits, "ok"), ("value a", "-1/" + digits),
+                   ("cell b a*a/a", "error BadFormula"),
                    ("input c " + digits, "ok"), ("set c " + digits + "0", "c = " + digits + "0"))
 
     def test_cells_with_the_names_of_commands(self):
@@ -212,14 +221,18 @@ class BadCommandTest(ConsoleCase):
     def test_lines_that_are_no_commands(self):
         console = worked()
         for line in (
-            "", " ", "\n", "help", "Show", "show ", " show", "show a", "steps 1", "undo 1", "redo a", "undo\n", "set", "set a",
-            "set a 1 b", "set 1 a", "set a 1 2", "set a 1  b 2", "set a b", "set a 1/0", "set a 1,", "set sum 1", "set a -",
+            "", " ", "\n", "help", "Show", "show ", " show", "show a", "steps 1", "undo 1", "redo a", "undo\n", "set",
+            "set a",
+            "set a 1 b", "set 1 a", "set a 1 2", "set a 1  b 2", "set a b", "set a 1/0", "set a 1,", "set sum 1",
+            "set a -",
             "input a", "input a 1 2", "input 1 a", "input a -", "input a 1/0", "input a 1.", "input a .5", "input a +1",
-            "input  a 1", "input a  1", "input a 1 ", "input a 1\n", "input A 1", "input abcdefghi 1", "input average 1",
+            "input  a 1", "input a  1", "input a 1 ", "input a 1\n", "input A 1", "input abcdefghi 1",
+            "input average 1",
             "limit a", "limit a 1", "limit a 1 2 3", "limit a - - -", "limit a -- 1", "limit a 1 none", "limit - 1 2",
             "limit a , 1", "hold", "hold a b", "hold -", "hold sum", "free", "free a b", "unlimit", "unlimit a b",
             "exchange a", "exchange a b c", "exchange a 1", "rename a", "rename a b c", "rename a sum", "rename a A",
-            "rename a -", "mark", "mark a b", "mark 1", "mark sum", "back", "back a b", "back average", "back M", "value",
+            "rename a -", "mark", "mark a b", "mark 1", "mark sum", "back", "back a b", "back average", "back M",
+            "value",
             "value a b", "value 1", "least", "least a b", "least a 1", "greatest", "greatest 1", "why a", "why a 1 2",
             "why 1 a", "why a -", "why a 1/0", "why a b 1", "remove", "remove a b", "remove 1", "add_input x 1",
             "set_values a 1", "exchange_roles a b", "inputs a 1", "history", "copy", "input\ta 1", "input a\n1",
@@ -259,7 +272,8 @@ class ErrorsTest(ConsoleCase):
             ("define a (", "BadFormula"), ("remove none", "UnknownCell"), ("remove a", "CellInUse"),
             ("rename none x", "UnknownCell"), ("rename a b", "DuplicateCell"), ("rename a a", "DuplicateCell"),
             ("set none 1", "UnknownCell"), ("set a 1 a 1", "DuplicateCell"), ("hold none", "UnknownCell"),
-            ("hold a", "AlreadyHeld"), ("free b", "NotHeld"), ("free none", "UnknownCell"), ("limit none 2 1", "UnknownCell"),
+            ("hold a", "AlreadyHeld"), ("free b", "NotHeld"), ("free none", "UnknownCell"),
+            ("limit none 2 1", "UnknownCell"),
             ("limit a 2 1", "EmptyLimit"), ("unlimit a", "NoLimit"), ("unlimit none", "UnknownCell"),
             ("exchange none a", "UnknownCell"), ("exchange a none", "UnknownCell"), ("exchange total a", "NotInput"),
             ("exchange a b", "NotComputed"), ("back none", "NoMark"), ("value none", "UnknownCell"),
@@ -296,7 +310,8 @@ class ErrorsTest(ConsoleCase):
 
     def test_an_error_forgets_nothing_that_was_undone(self):
         console = worked()
-        for line in ("set total 1000", "hold none", "back none", "why none 1", "value none", "why total 5", "mark m", "show"):
+        for line in ("set total 1000", "hold none", "back none", "why none 1", "value none", "why total 5", "mark m",
+                     "show"):
             console.enter(line)
         self.check(console, ("redo", "ok"), ("redo", "ok"), ("redo", "error NothingToRedo"), ("steps", "8"))
 

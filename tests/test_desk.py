@@ -89,7 +89,8 @@ class NewDeskTest(DeskCase):
             for desk in (Desk(sheet), Desk(sheet=sheet)):
                 self.assertEqual(desk.present_sheet(), sheet)
                 self.assertEqual(desk.present_table(), sheet.own_table())
-                self.assertEqual([desk.held_cells(), desk.present_limits(), desk.mark_words(), desk.history()], [()] * 4)
+                self.assertEqual([desk.held_cells(), desk.present_limits(), desk.mark_words(), desk.history()],
+                                 [()] * 4)
                 self.assertEqual(len(desk), 0)
                 self.check_refused(desk, errors.NothingToUndo, {}, "undo")
                 self.check_refused(desk, errors.NothingToRedo, {}, "redo")
@@ -240,7 +241,8 @@ class RowsTest(DeskCase):
             self.check_refused(desk, errors.DuplicateCell, {"name": name}, "add_input", name, 1)
             self.check_refused(desk, errors.DuplicateCell, {"name": name}, "add_formula", name, "none + (")
         for text, word, position in (
-            ("a +", "syntax", 3), ("", "syntax", 0), (" ", "syntax", 1), ("a*b", "linear", 1), ("none/0 + x*y", "zero", 4),
+            ("a +", "syntax", 3), ("", "syntax", 0), (" ", "syntax", 1), ("a*b", "linear", 1),
+            ("none/0 + x*y", "zero", 4),
             ("a\n", "syntax", 1),
         ):
             fields = {"name": "x", "word": word, "position": position}
@@ -297,7 +299,8 @@ class SetValuesTest(DeskCase):
         desk.free("net")
         desk.limit("net", 0, 105)
         desk.limit("tax", 0, 40)
-        self.check_done(desk, ("net", "tax"), "set_values", [("total", 145)], step=("set_values", (("total", (145, 1)),)))
+        self.check_done(desk, ("net", "tax"), "set_values", [("total", 145)],
+                        step=("set_values", (("total", (145, 1)),)))
         self.assertEqual(self.numbers(desk), {"net": 105, "tax": 40, "total": 145})
         weights = self.refused_weights(desk, "set_values", [("total", 146)])
         lists = {"wishes": [("total", 146)], "limits": desk.present_limits()}
@@ -540,7 +543,8 @@ class RenameTest(DeskCase):
         self.assertEqual(desk.held_cells(), ("d", "z"))
         self.assertEqual(desk.present_limits(), (("d", None, (12, 1)), ("z", None, (12, 1))))
         self.check_done(desk, None, "rename", name="d", other="zz", step=("rename", "d", "zz"))
-        self.assertEqual((desk.held_cells(), desk.present_sheet().rows()[2]), (("z", "zz"), ("zz", "formula", "c*3 + 0")))
+        self.assertEqual((desk.held_cells(), desk.present_sheet().rows()[2]),
+                         (("z", "zz"), ("zz", "formula", "c*3 + 0")))
         self.check_done(desk, None, "rename", "b", "a")
         self.assertEqual(desk.present_sheet().rows()[4], ("e", "formula", "a - z"))
         self.assertEqual(desk.value_of("e"), (17, 2))
@@ -567,6 +571,9 @@ class RenameTest(DeskCase):
                 self.check_refused(desk, errors.UnknownCell, {"name": name}, "rename", name, other)
         for other in ("", "sum", "average", "A", "abcdefghi", "a b", "a\n", "-", "total1"):
             self.check_refused(desk, errors.InvalidName, {"name": other}, "rename", "a", other)
+            # Also where the formula that names the cell stands ahead of it.
+            self.check_refused(Desk(Sheet(FIRST.rows()[::-1])), errors.InvalidName, {"name": other}, "rename", "a",
+                               other)
         for other in ("a", "b", "total"):
             self.check_refused(desk, errors.DuplicateCell, {"name": other}, "rename", "a", other)
 
@@ -635,7 +642,8 @@ class MarksTest(DeskCase):
 
     def test_words_that_are_no_names(self):
         desk = Desk(FIRST)
-        for word in (*[value for value in ODD_VALUES if value not in ("a", "wish")], "", "sum", "average", "A", "abcdefghi",
+        for word in (*[value for value in ODD_VALUES if value not in ("a", "wish")], "", "sum", "average", "A",
+                     "abcdefghi",
                      "a b", "a\n", "m1", ["m"], ("m",)):
             self.check_refused(desk, errors.InvalidName, {"name": word}, "mark", word)
 
@@ -727,7 +735,8 @@ class HistoryTest(DeskCase):
         self.assertEqual(desk.history(), (
             ("add_input", "x", (5, 1)), ("add_input", "y", (-1, 2)), ("add_formula", "z", " x + y"),
             ("set_values", (("z", (9, 1)), ("a", (1, 3)))), ("set_values", ()), ("define", "z", "x*2"), ("hold", "x"),
-            ("limit", "a", None, (7, 1)), ("limit", "b", (-2, 1), None), ("limit", "b", (1, 2), (9, 1)), ("unlimit", "a"),
+            ("limit", "a", None, (7, 1)), ("limit", "b", (-2, 1), None), ("limit", "b", (1, 2), (9, 1)),
+            ("unlimit", "a"),
             ("exchange_roles", "a", "total"), ("rename", "a", "q"), ("free", "x"), ("remove", "y"), ("back", "m"),
         ))
         self.assertEqual(len(desk), 16)
@@ -769,7 +778,8 @@ class ReplayTest(DeskCase):
     def test_values_that_are_no_operations(self):
         for value in (
             *ODD_VALUES, (), [], ("undo",), ("redo",), ("mark", "m"), ("back", "m"), ("copy",), ("Hold", "a"),
-            ("hold",), ("hold", "a", "b"), ("hold", None), ("hold", ["a"]), ("hold", 3), ("hold", ("a",)), ("free", True),
+            ("hold",), ("hold", "a", "b"), ("hold", None), ("hold", ["a"]), ("hold", 3), ("hold", ("a",)),
+            ("free", True),
             ("remove",), ("remove", 0), ("unlimit", ()), ("limit", "a", 1), ("limit", "a", 1, 2, 3), ("limit", 1, 1, 2),
             ("add_input", "x"), ("add_input", 5, 5), ("add_input", "x", 5, 5), ("add_formula", None, "a"),
             ("add_formula", "x"), ("define", 1, "a"), ("define", "a"), ("set_values",), ("set_values", None),

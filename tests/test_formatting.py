@@ -135,7 +135,8 @@ class SheetTest(TextCase):
 
     def test_lines_that_do_not_have_their_form(self):
         for line in (*["input a = " + text for text in NO_NUMBERS if "\n" not in text],
-                     *[word + " " + name + " = 1" for name in NO_NAMES if "\n" not in name for word in ("input", "cell")],
+                     *["input " + name + " = 1" for name in NO_NAMES if "\n" not in name],
+                     *["cell " + name + " = 1" for name in NO_NAMES if "\n" not in name],
                      "", "a", "input", "cell", "input ", "input a", "input a =", "cell a =", "cell a = ", "cell a=1",
                      "inputs a = 1", "Input a = 1", " input a = 1", "input  a = 1", "input a  = 1", "cell  a = 1",
                      "cell a  = 1", "cells a = 1", "a = 1", "held a", "limits a", "output a = 1", "input a = b"):
@@ -208,7 +209,8 @@ class LimitsTest(TextCase):
             self.assertEqual(limits_text((limits,)), text)
 
     def test_what_is_not_checked(self):
-        self.assertEqual(read_limits("b from 2 to 1, a, b"), (("b", (2, 1), (1, 1)), ("a", None, None), ("b", None, None)))
+        self.assertEqual(read_limits("b from 2 to 1, a, b"),
+                         (("b", (2, 1), (1, 1)), ("a", None, None), ("b", None, None)))
         for text, number in NUMBERS:
             self.assertEqual(read_limits("a from " + text + " to " + text), (("a", number, number),))
 
@@ -241,7 +243,8 @@ class WeightsTest(TextCase):
         self.assertIs(is_refusal(TOTAL, read_weights(text), wishes=[("total", 134)], limits=limits), True)
         weights = ((("formula", "total"), (-1, 1)), (("wish", "total"), (1, 1)))
         self.assertEqual(weights_text(weights), "-1 formula total, 1 wish total")
-        weights = tuple([((word, "wish"), (at + 1, LONG)) for at, word in enumerate(("formula", "held", "high", "low", "wish"))])
+        words = ("formula", "held", "high", "low", "wish")
+        weights = tuple([((word, "wish"), (at + 1, LONG)) for at, word in enumerate(words)])
         self.assertEqual(read_weights(weights_text(weights)), weights)
         self.assertEqual((weights_text(()), weights_text([]), read_weights("")), ("", "", ()))
 
@@ -258,7 +261,8 @@ class WeightsTest(TextCase):
             "", "1", "1 wish", "wish a", "1 wish a b", "1  wish a", "1 wish  a", "1 wish a ", " 1 wish a", "1 a wish",
             "a wish 1", "1 2 wish a",
         ):
-            for text, at in ((part + ", 1 low b", 0), ("1 low b, " + part, 1), ("1 low b, 2 low b, " + part + ", ?", 2)):
+            texts = (part + ", 1 low b", "1 low b, " + part, "1 low b, 2 low b, " + part + ", ?")
+            for at, text in enumerate(texts):
                 self.check_bad(read_weights, text, at)
         self.check_bad(read_weights, "1 low b, ", 1)
 
@@ -316,7 +320,8 @@ class DeskTest(TextCase):
         rows, held, limits = self.ROWS, "held a", "limits a from 0"
         for lines, at in (
             ((held, rows), 1), ((rows, held, held), 4), ((rows, limits, held), 4), ((rows, limits, limits), 4),
-            ((rows, held, limits, "input x = 1"), 5), ((rows, limits, "cell x = 1"), 4), ((rows, held, "input x = 1"), 4),
+            ((rows, held, limits, "input x = 1"), 5), ((rows, limits, "cell x = 1"), 4),
+            ((rows, held, "input x = 1"), 4),
             ((rows, held, limits, held), 5), ((rows, held, limits, limits), 5), ((limits, rows), 1),
             ((rows, held, ""), 4), ((rows, ""), 3), ((rows, "", held), 3), (("", rows), 0), ((rows, limits, ""), 4),
             ((rows, held, "", limits), 4),

@@ -47,7 +47,8 @@ FUNCTIONS = {
         "is_split(sheet, move, parts, *, held=())",
     ),
     "wishes": (
-        "largest_wishes(sheet, wishes, *, held=(), limits=())", "smallest_clashes(sheet, wishes, *, held=(), limits=())",
+        "largest_wishes(sheet, wishes, *, held=(), limits=())",
+        "smallest_clashes(sheet, wishes, *, held=(), limits=())",
         "wishes_in_order(sheet, wishes, *, held=(), limits=())",
     ),
     "reasons": ("fixed_cells(sheet, names)", "smallest_fixing(sheet, names, name)", "releases(sheet, names, name)"),

@@ -218,7 +218,8 @@ class ListsTest(Case):
     """[19] in all functions that are passed wishes by position."""
 
     CALLS = (
-        (largest_wishes, {}), (smallest_clashes, {}), (wishes_in_order, {}), (solve, {}), (is_solution, {"value": None}),
+        (largest_wishes, {}), (smallest_clashes, {}), (wishes_in_order, {}), (solve, {}),
+        (is_solution, {"value": None}),
     )
 
     def test_the_lists_are_checked(self):
