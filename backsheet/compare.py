@@ -25,12 +25,13 @@ def follows(sheet, form):
 
 def parting_table(sheet, form):
     """Return a table in which a form is not 0, or None if there is none."""
-    names, _ = replaced_form(form, input_based(sheet))
+    terms, _ = replaced_form(form, input_based(sheet))
     if value_at(form, sheet.own_table()) != ZERO:
         return sheet.own_table()
-    if names == ():
+    if terms == ():
         return None
-    name, _ = names[0]
+    # Where a form is 0, another number in one of its inputs makes something else of it.
+    name, _ = terms[0]
     return sheet.with_input(name, add(sheet.value_of(name), ONE)).own_table()
 
 

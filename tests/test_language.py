@@ -44,6 +44,10 @@ BARRED_WORDS = re.compile(
     r"\b(type|typing|typing_extensions|enum|Enum|IntEnum|StrEnum|Flag|IntFlag|Generic|Protocol|ABC|ABCMeta|namedtuple"
     r"|NamedTuple|TypedDict|TYPE_CHECKING|abstractmethod)\b|dataclass|overload|contextmanager|_wall|_WallAttr")
 BUILTIN_METHODS = {name for kind in (str, int, list, dict, set, tuple, bytes) for name in vars(kind)}
+ITERATED = (
+    "zip", "enumerate", "reversed", "range", "map", "items", "keys", "values", "set", "combinations", "product",
+)
+TAKERS = ("list", "tuple", "dict", "sorted", "len")
 BARRED_NODES = (
     ast.AsyncFunctionDef, ast.AsyncFor, ast.AsyncWith, ast.Await, ast.Global, ast.Import, ast.Div, ast.MatMult,
     ast.MatchMapping, ast.TryStar,
@@ -184,12 +188,54 @@ def faults_of_handlers(tree):
     return faults
 
 
+def faults_of_comparisons(tree):
+    """Rule L20: what stands beside is."""
+    nodes = [node for node in ast.walk(tree) if isinstance(node, ast.Compare)
+             and isinstance(node.ops[0], (ast.Is, ast.IsNot))]
+    return [f"is in line {node.lineno}" for node in nodes
+            if ast.unparse(node.comparators[0]) not in ("None", "True", "False")]
+
+
+def faults_of_calls(tree):
+    """Rules L7 and L22: what stands beside two stars, and keywords of what is not called by a name."""
+    faults = []
+    for node in [node for node in ast.walk(tree) if isinstance(node, ast.Call)]:
+        words = [keyword.arg for keyword in node.keywords]
+        values = [*node.args, *[keyword.value for keyword in node.keywords]]
+        if None in words and not all([isinstance(value, (ast.Name, ast.Attribute, ast.Constant)) for value in values]):
+            faults.append(f"beside two stars in line {node.lineno}")
+        if words and isinstance(node.func, ast.Attribute) and node.func.attr in METHODS:
+            faults.append(f"keyword of a method in line {node.lineno}")
+    return faults
+
+
+def faults_of_iteration(tree):
+    """Rules L23 and L24: where zip, enumerate, views of dicts and sets may stand."""
+    faults = []
+    for node in ast.walk(tree):
+        iterated = []
+        if isinstance(node, (ast.For, ast.comprehension)):
+            iterated = [node.iter]
+        elif isinstance(node, ast.Call) and isinstance(node.func, ast.Name) and node.func.id in TAKERS:
+            iterated = node.args
+        for value in iterated:
+            value.is_taken = True
+            if isinstance(value, ast.BinOp):
+                value.left.is_taken = value.right.is_taken = True
+    for node in [node for node in ast.walk(tree) if isinstance(node, ast.Call)]:
+        word = getattr(node.func, "id", getattr(node.func, "attr", ""))
+        if word in ITERATED and not hasattr(node, "is_taken"):
+            faults.append(f"{word} in line {node.lineno}")
+    return faults
+
+
 def faults_of_source(text):
     tree = ast.parse(text)
     found = [faults_of_lines(text)]
     for look in (
         faults_of_imports, faults_of_names, faults_of_local_names, faults_of_functions, faults_of_values,
-        faults_beside_equality, faults_of_classes, faults_of_handlers,
+        faults_beside_equality, faults_of_classes, faults_of_handlers, faults_of_comparisons, faults_of_calls,
+        faults_of_iteration,
     ):
         found.append(look(tree))
     return [fault for faults in found for fault in faults]
@@ -243,6 +289,10 @@ class FaultsTest(unittest.TestCase):
             "def f(x):\n    return any(y for y in x)", "def f(x):\n    x.sort()",
             "class A:\n    def f(self):\n        self.f = 1",
             "class A:\n    def f(self):\n        pass\n    def f(self):\n        pass",
+            "def f(x):\n    return x is 5", "def f(x):\n    return f(x.g(), **x)",
+            "def f(x):\n    return x.split(sep='a')",
+            "def f(x):\n    y = zip(x, x)\n    return list(y)", "def f(x):\n    return x.items()",
+            "def f(x):\n    for y in set(x):\n        z = set(x)",
             "def f(e):\n    try:\n        pass\n    except KeyError as e:\n        pass",
         ):
             with self.subTest(source[:40]):
